@@ -1,0 +1,1 @@
+"""Poolsmeet models water on a line, in a trough and on a ring, with exact ratios."""

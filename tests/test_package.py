@@ -1,0 +1,131 @@
+"""The shape of the package: the interface of the document, and rules of the language that a test can see."""
+
+import ast
+import inspect
+import unittest
+from importlib import import_module
+from pathlib import Path
+
+FOLDER = Path(__file__).resolve().parent.parent / "poolsmeet"
+FILES = sorted(FOLDER.rglob("*.py"))
+
+ERRORS = {
+    "PoolError": None, "InvalidNumber": ["value"], "InvalidDrop": ["index"], "InvalidTime": ["time"],
+    "InvalidText": ["line"], "InvalidCommand": None, "Full": ["limit"], "MissingDrop": ["spot", "amount"],
+    "Touching": ["index"], "OutOfGround": ["spot"], "Overfull": ["total"], "TrialError": None,
+    "UnknownIndex": ["index"],
+}
+
+# For each class its methods with their parameters, and its properties.
+CLASSES = {
+    ("ratios", "Ratio"): (
+        {
+            "__init__": ["self", "top", "bottom"], "of": ["cls", "value"], "read": ["cls", "text"],
+            "over": ["self", "other"],
+            **{name: ["self", "other"] for name in (
+                "__add__", "__radd__", "__sub__", "__rsub__", "__mul__", "__rmul__", "__floordiv__", "__mod__",
+                "__eq__", "__ne__", "__lt__", "__le__", "__gt__", "__ge__",
+            )},
+            **{name: ["self"] for name in ("__neg__", "__abs__", "__bool__", "__str__", "__repr__")},
+        },
+        ["is_whole", "floor"],
+    ),
+    ("pools", "Pool"): (
+        {
+            "__init__": ["self", "middle", "volume"], "between": ["cls", "left", "right"], "gap_to": ["self", "other"],
+            "touches": ["self", "other"], "__contains__": ["self", "x"], "__eq__": ["self", "other"],
+            "__add__": ["self", "other"],
+            "__repr__": ["self"],
+        },
+        ["middle", "volume", "left", "right"],
+    ),
+}
+
+BARRED_WORDS = {
+    "type", "typing", "typing_extensions", "enum", "Enum", "IntEnum", "StrEnum", "Flag", "IntFlag", "Generic",
+    "Protocol", "ABC", "ABCMeta", "namedtuple", "NamedTuple", "TypedDict", "TYPE_CHECKING", "abstractmethod",
+}
+
+
+def named(module):
+    return import_module(f"poolsmeet.{module}")
+
+
+def trees():
+    return [(path.name, ast.parse(path.read_text(encoding="utf-8"))) for path in FILES]
+
+
+def nodes(*kinds):
+    return [(name, node) for name, tree in trees() for node in ast.walk(tree) if isinstance(node, kinds)]
+
+
+class Interface(unittest.TestCase):
+    def test_init_contains_only_a_docstring(self):
+        body = ast.parse((FOLDER / "__init__.py").read_text()).body
+        self.assertEqual(len(body), 1)
+        self.assertIsInstance(ast.literal_eval(body[0].value), str)
+
+    def test_the_errors_take_the_documented_arguments(self):
+        for name, parameters in ERRORS.items():
+            made = getattr(named("errors"), name)
+            self.assertEqual(made.__module__, "poolsmeet.errors")
+            if parameters is not None:
+                self.assertEqual(inspect.getfullargspec(vars(made)["__init__"]).args, ["self", *parameters])
+
+    def test_classes_define_their_own_methods(self):
+        for (module, name), (methods, properties) in CLASSES.items():
+            made = getattr(named(module), name)
+            self.assertEqual(made.__module__, f"poolsmeet.{module}")
+            for method, parameters in methods.items():
+                with self.subTest(name, method=method):
+                    found = vars(made)[method]
+                    found = getattr(found, "__func__", found)
+                    self.assertEqual(inspect.getfullargspec(found).args, parameters)
+            for attribute in properties:
+                with self.subTest(name, property=attribute):
+                    self.assertIsInstance(vars(made)[attribute], property)
+
+
+class Language(unittest.TestCase):
+    def test_the_folder_holds_python_files_only(self):
+        found = [path for path in FOLDER.rglob("*") if path.is_file() and "__pycache__" not in path.parts]
+        self.assertEqual(sorted(found), FILES)
+
+    def test_characters_and_sizes(self):
+        for path in FILES:
+            text = path.read_text(encoding="utf-8")
+            self.assertTrue(all(" " <= sign <= "~" or sign == "\n" for sign in text), path)
+            lines = text.splitlines()
+            self.assertLessEqual(len(lines), 399, path)
+            self.assertLessEqual(max(map(len, lines)), 120, path)
+
+    def test_functions_are_short(self):
+        for name, node in nodes(ast.FunctionDef):
+            self.assertLessEqual(node.end_lineno - node.lineno + 1, 40, (name, node.name))
+
+    def test_imports_are_from_the_package_or_the_listed_library(self):
+        self.assertEqual(nodes(ast.Import), [])
+        for name, node in nodes(ast.ImportFrom):
+            self.assertEqual(node.level, 0, name)
+            listed = node.module in ("math", "heapq", "itertools", "collections")
+            self.assertTrue(listed or node.module.startswith("poolsmeet."), name)
+
+    def test_no_percent_sign_and_no_float_in_a_literal(self):
+        for name, node in nodes(ast.Constant):
+            self.assertNotIsInstance(node.value, float, name)
+            self.assertNotIsInstance(node.value, complex, name)
+            self.assertNotIn("%", str(node.value), name)
+        self.assertEqual(nodes(ast.Div), [])
+
+    def test_no_barred_statement(self):
+        barred = ast.Global, ast.AsyncFunctionDef, ast.AsyncFor, ast.AsyncWith, ast.Await
+        self.assertEqual(nodes(*barred), [])
+
+    def test_no_barred_word(self):
+        for name, node in nodes(ast.Name, ast.Attribute, ast.arg, ast.FunctionDef, ast.ClassDef):
+            word = getattr(node, "id", None) or getattr(node, "attr", None) or getattr(node, "arg", None) or node.name
+            self.assertNotIn(word, BARRED_WORDS, name)
+
+
+if __name__ == "__main__":
+    unittest.main()
