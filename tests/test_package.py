@@ -39,6 +39,37 @@ CLASSES = {
         },
         ["middle", "volume", "left", "right"],
     ),
+    ("waters", "Water"): (
+        {
+            "__init__": ["self", "pools"], "settled": ["cls", "pools"], "pools": ["self"], "gaps": ["self"],
+            "__call__": ["self", "spot"],
+            **{name: ["self"] for name in ("__len__", "__bool__", "__abs__", "__neg__", "__str__", "__repr__")},
+            **{name: ["self", "other"] for name in (
+                "__add__", "__eq__", "__le__", "__lt__", "__ge__", "__gt__", "__rshift__", "__lshift__",
+            )},
+            "__getitem__": ["self", "at"], "__contains__": ["self", "x"],
+        },
+        ["volume", "left", "right"],
+    ),
+    ("rains", "Rain"): (
+        {
+            "__init__": ["self", "drops"], "read": ["cls", "text"], "__call__": ["self", "time"],
+            **{name: ["self"] for name in ("__len__", "__bool__", "__abs__", "__neg__", "__str__", "__repr__")},
+            **{name: ["self", "other"] for name in (
+                "__add__", "__sub__", "__mul__", "__rmul__", "__eq__", "__rshift__", "__lshift__",
+            )},
+            "__contains__": ["self", "x"],
+        },
+        ["drops", "volume", "middle"],
+    ),
+}
+
+# For each module its functions with their parameters.
+FUNCTIONS = {
+    "layouts": {
+        "settle": ["rain"], "groups": ["rain"], "berths": ["rain"], "shifts": ["rain"], "pushes": ["rain"],
+        "work": ["rain"], "layout": ["rain"], "layout_holds": ["rain", "value"],
+    },
 }
 
 BARRED_WORDS = {
@@ -84,6 +115,14 @@ class Interface(unittest.TestCase):
             for attribute in properties:
                 with self.subTest(name, property=attribute):
                     self.assertIsInstance(vars(made)[attribute], property)
+
+    def test_functions_are_defined_in_their_modules(self):
+        for module, functions in FUNCTIONS.items():
+            for name, parameters in functions.items():
+                with self.subTest(name):
+                    found = vars(named(module))[name]
+                    self.assertEqual(found.__module__, f"poolsmeet.{module}")
+                    self.assertEqual(inspect.getfullargspec(found).args, parameters)
 
 
 class Language(unittest.TestCase):

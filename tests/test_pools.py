@@ -6,34 +6,14 @@ from fractions import Fraction
 from poolsmeet.errors import InvalidNumber
 from poolsmeet.pools import Pool
 from poolsmeet.ratios import Ratio
+from support import TINY, Case, fraction, pair, pool, ratio
 
-TINY = Fraction(1, 10 ** 30)
 MIDDLES = [Fraction(-7, 2), Fraction(-1), Fraction(0), Fraction(1, 3), Fraction(2), Fraction(10 ** 9)]
 VOLUMES = [Fraction(1, 1000), Fraction(2, 3), Fraction(1), Fraction(7), Fraction(10 ** 9)]
 PAIRS = [(middle, volume) for middle in MIDDLES for volume in VOLUMES]
 
 
-def ratio(fraction):
-    return Ratio(fraction.numerator, fraction.denominator)
-
-
-def pool(middle, volume):
-    return Pool(ratio(Fraction(middle)), ratio(Fraction(volume)))
-
-
-def fraction(value):
-    return Fraction(value.top, value.bottom)
-
-
-def pair(value):
-    return fraction(value.middle), fraction(value.volume)
-
-
-class PoolCase(unittest.TestCase):
-    def assert_ratio(self, value, expected):
-        self.assertIs(type(value), Ratio)
-        self.assertEqual(fraction(value), expected)
-
+class PoolCase(Case):
     def assert_pool(self, value, middle, volume):
         self.assertIs(type(value), Pool)
         self.assert_ratio(value.middle, middle)
@@ -173,13 +153,8 @@ class TwoPools(PoolCase):
         self.assertIs(Pool(Ratio(4, 2), 1) == Pool(2, Ratio(3, 3)), True)
 
     def test_equality_with_values_of_other_kinds(self):
-        made = Pool(0, 1)
-        for other in (0, 1, True, None, "Pool(0, 1)", (0, 1), [0, 1], Ratio(1), Ratio(0), object(), Pool, 1.0, {}):
-            with self.subTest(other=other):
-                self.assertIs(made == other, False)
-                self.assertIs(other == made, False)
-                self.assertIs(made != other, True)
-                self.assertIs(other != made, True)
+        others = [0, 1, True, None, "Pool(0, 1)", (0, 1), [0, 1], Ratio(1), Ratio(0), object(), Pool, 1.0, {}]
+        self.assert_equals_none(Pool(0, 1), others)
 
     def test_repr(self):
         for made, text in [
