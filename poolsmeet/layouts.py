@@ -1,5 +1,6 @@
 """The water of a rain, where the drops lie in it, and the certificate that shows this."""
 
+from poolsmeet.blocks import blocks_of, ends_of, run_together, scale_of
 from poolsmeet.ratios import Ratio, is_number
 
 
@@ -10,17 +11,21 @@ def settle(rain):
 
 def groups(rain):
     """Return, for each pool from the left, the indexes of its first and last drop."""
-    return tuple([(first, last) for _, first, last in gathered(rain)])
+    blocks = run_together(blocks_of(rain.drops, scale_of(rain.drops)))
+    return tuple([(first, last) for first, last, _, _ in blocks])
 
 
 def berths(rain):
     """Return the stretches that the drops take up in their pools, as pairs of ends."""
+    scale = scale_of(rain.drops)
     found = []
-    for pool, first, last in gathered(rain):
-        left = pool.left
+    for block in run_together(blocks_of(rain.drops, scale)):
+        first, last, _, _ = block
+        left, _ = ends_of(block, scale)
         for _, volume in rain.drops[first:last + 1]:
-            found.append((left, left + volume))
-            left = left + volume
+            right = left + volume
+            found.append((left, right))
+            left = right
     return tuple(found)
 
 
@@ -31,13 +36,7 @@ def shifts(rain):
 
 def pushes(rain):
     """Return the pushes behind the drops."""
-    found = []
-    # The push behind the last drop of a pool is 0, so the sum goes on into the next pool.
-    push = Ratio(0)
-    for (_, volume), shift in zip(rain.drops, shifts(rain)):
-        push = push - volume * shift
-        found.append(push)
-    return tuple(found)
+    return pushes_on(rain.drops, berths(rain))
 
 
 def work(rain):
@@ -48,7 +47,8 @@ def work(rain):
 
 def layout(rain):
     """Return the certificate of the rain's water: the berths and the pushes."""
-    return berths(rain), pushes(rain)
+    stretches = berths(rain)
+    return stretches, pushes_on(rain.drops, stretches)
 
 
 def layout_holds(rain, value):
@@ -62,26 +62,15 @@ def layout_holds(rain, value):
     return rules_hold(rain.drops, ends, [Ratio.of(level) for level in levels])
 
 
-def gathered(rain):
-    """Return a list with each pool, from the left, and the indexes of its first and last drop."""
-    water = settle(rain)
+def pushes_on(drops, stretches):
+    """Return the pushes behind the drops, whose berths are the stretches."""
     found = []
-    first = 0
-    for pool in water.pools():
-        last = last_to_fill(pool.volume, rain.drops, first)
-        found.append((pool, first, last))
-        first = last + 1
-    return found
-
-
-def last_to_fill(volume, drops, first):
-    """Return the index of the drop that fills the volume, if the drop with the index first begins it."""
-    last = first
-    missing = volume - drops[first][1]
-    while missing > 0:
-        last = last + 1
-        missing = missing - drops[last][1]
-    return last
+    # The push behind the last drop of a pool is 0, so the sum goes on into the next pool.
+    push = Ratio(0)
+    for (spot, volume), stretch in zip(drops, stretches):
+        push = push + volume * (spot - middle_of(stretch))
+        found.append(push)
+    return tuple(found)
 
 
 def rules_hold(drops, stretches, levels):

@@ -13,6 +13,9 @@ class Pool:
             raise InvalidNumber(volume)
         self._middle = Ratio.of(middle)
         self._volume = amount
+        half = amount.over(2)
+        self._left = self._middle - half
+        self._right = self._middle + half
 
     @classmethod
     def between(cls, left, right):
@@ -35,12 +38,12 @@ class Pool:
     @property
     def left(self):
         """The left end of the stretch."""
-        return self._middle - self._volume.over(2)
+        return self._left
 
     @property
     def right(self):
         """The right end of the stretch."""
-        return self._middle + self._volume.over(2)
+        return self._right
 
     def gap_to(self, other):
         """Return the length of the dry stretch between both pools, at most 0 if they touch."""
@@ -58,7 +61,7 @@ class Pool:
         return Pool(moment.over(volume), volume)
 
     def __contains__(self, x):
-        return self.left <= x <= self.right
+        return self._left <= x <= self._right
 
     def __eq__(self, other):
         return isinstance(other, Pool) and self.middle == other.middle and self.volume == other.volume

@@ -1,10 +1,9 @@
 """Rain: drops that fall at spots of a line."""
 
+from poolsmeet.blocks import in_order
 from poolsmeet.errors import Full, InvalidDrop, InvalidNumber, InvalidText, InvalidTime, MissingDrop
-from poolsmeet.orders import in_order
-from poolsmeet.pools import Pool
 from poolsmeet.ratios import Ratio, is_number
-from poolsmeet.waters import Water
+from poolsmeet.waters import Water, settled_pools
 
 
 class Rain:
@@ -55,8 +54,7 @@ class Rain:
             raise InvalidTime(time)
         if time == 0:
             return Water()
-        fallen = self * time
-        return Water.settled([Pool(spot, volume) for spot, volume in fallen.drops])
+        return Water(settled_pools([(spot, volume * time) for spot, volume in self._drops]))
 
     def __contains__(self, x):
         return x in self._drops

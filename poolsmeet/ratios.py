@@ -22,10 +22,10 @@ class Ratio:
     @classmethod
     def of(cls, value):
         """Return the ratio of an integer or of a ratio."""
-        if not is_number(value):
-            raise InvalidNumber(value)
         if isinstance(value, Ratio):
             return value
+        if not is_number(value):
+            raise InvalidNumber(value)
         return cls(value)
 
     @classmethod
@@ -156,5 +156,6 @@ def is_group(digits):
 
 def lead(one, other):
     """Return an integer that has the sign of the ratio one minus the number other."""
-    number = Ratio.of(other)
-    return one.top * number.bottom - number.top * one.bottom
+    if isinstance(other, Ratio):
+        return one.top * other.bottom - other.top * one.bottom
+    return one.top - other * one.bottom

@@ -1,7 +1,7 @@
 """Water: pools on a line, no two of which touch."""
 
+from poolsmeet.blocks import blocks_of, in_order, run_together, scale_of
 from poolsmeet.errors import Touching, UnknownIndex
-from poolsmeet.orders import in_order
 from poolsmeet.pools import Pool
 from poolsmeet.ratios import Ratio, is_number
 
@@ -20,14 +20,7 @@ class Water:
     @classmethod
     def settled(cls, pools):
         """Return the water that remains when the pools, in any order, have run together."""
-        standing = []
-        # From the left, a pool that does not touch the last one that stands touches none of those before it.
-        for middle, volume in in_order([(pool.middle, pool.volume) for pool in pools]):
-            fallen = Pool(middle, volume)
-            while standing and fallen.touches(standing[-1]):
-                fallen = fallen + standing.pop()
-            standing.append(fallen)
-        return cls(standing)
+        return cls(settled_pools(in_order([(pool.middle, pool.volume) for pool in pools])))
 
     def pools(self):
         """Give the pools, from the left."""
@@ -56,13 +49,10 @@ class Water:
 
     def __call__(self, spot):
         """Return the index of the pool that covers the spot, None if the spot is dry."""
-        for at, pool in enumerate(self._pools):
-            if spot in pool:
-                return at
-        return None
+        return place_of(spot, self._pools)
 
     def __contains__(self, x):
-        return any([x in pool for pool in self._pools])
+        return place_of(x, self._pools) is not None
 
     def __getitem__(self, at):
         if not 0 <= at < len(self._pools):
@@ -92,7 +82,7 @@ class Water:
     def __le__(self, other):
         if not isinstance(other, Water):
             return NotImplemented
-        return all([lies_in_one(pool, other._pools) for pool in self._pools])
+        return lie_within(self._pools, other._pools)
 
     def __lt__(self, other):
         if not isinstance(other, Water):
@@ -131,10 +121,31 @@ class Water:
         return f"Water({len(self._pools)})"
 
 
-def lies_in_one(pool, others):
-    """Tell whether one of the others covers the whole pool."""
-    # Others that do not touch cannot cover a pool together.
-    return any([other.left <= pool.left and pool.right <= other.right for other in others])
+def settled_pools(pairs):
+    """Return a list of the pools that the pairs (middle, volume), which are in order, run together to."""
+    scale = scale_of(pairs)
+    blocks = run_together(blocks_of(pairs, scale))
+    return [Pool(Ratio(pull, 2 * volume * scale), Ratio(volume, scale)) for _, _, volume, pull in blocks]
+
+
+def place_of(spot, pools):
+    """Return the index of the pool that covers the spot, None if there is none."""
+    for at, pool in enumerate(pools):
+        if spot in pool:
+            return at
+    return None
+
+
+def lie_within(pools, others):
+    """Tell whether each pool lies in one of the others; both are in order, and no two of the others touch."""
+    # Others that do not touch cannot cover a pool together, and one that ends before a pool ends is passed for good.
+    at = 0
+    for pool in pools:
+        while at < len(others) and others[at].right < pool.right:
+            at = at + 1
+        if at == len(others) or pool.left < others[at].left:
+            return False
+    return True
 
 
 def row_of(pool):
