@@ -62,6 +62,32 @@ CLASSES = {
         },
         ["drops", "volume", "middle"],
     ),
+    ("grounds", "Ground"): (
+        {
+            "__init__": ["self"], "filled": ["cls", "rain"], "pour": ["self", "spot", "volume"],
+            "take": ["self", "spot", "volume"], "is_wet": ["self", "spot"],
+            **{name: ["self"] for name in (
+                "rain", "stretches", "dry", "undo", "changes", "trial", "__len__", "__repr__",
+            )},
+        },
+        ["volume"],
+    ),
+    ("grounds", "Trough"): (
+        {
+            "__init__": ["self", "left", "right"], "filled": ["cls", "left", "right", "rain"],
+            "pour": ["self", "spot", "volume"], "stretches": ["self"], "is_wet": ["self", "spot"], "dry": ["self"],
+        },
+        [],
+    ),
+    ("grounds", "Ring"): (
+        {
+            "__init__": ["self", "length"], "filled": ["cls", "length", "rain"], "turned": ["spot", "length"],
+            "pour": ["self", "spot", "volume"], "take": ["self", "spot", "volume"], "stretches": ["self"],
+            "is_wet": ["self", "spot"], "dry": ["self"],
+        },
+        [],
+    ),
+    ("desk", "Desk"): ({"__init__": ["self"], "say": ["self", "command"], "__len__": ["self"]}, []),
 }
 
 # For each module its functions with their parameters.
@@ -70,6 +96,9 @@ FUNCTIONS = {
         "settle": ["rain"], "groups": ["rain"], "berths": ["rain"], "shifts": ["rain"], "pushes": ["rain"],
         "work": ["rain"], "layout": ["rain"], "layout_holds": ["rain", "value"],
     },
+    "steady": {"runnings": ["rain"], "joined_from": ["rain", "one", "other"], "wet_from": ["rain", "spot"]},
+    "plans": {"least_volume": ["rain", "spot", "one", "other"], "room_at": ["water", "spot"]},
+    "grounds": {"within": ["trial", "deed"], "attempt": ["ground", "steps"]},
 }
 
 BARRED_WORDS = {
@@ -116,6 +145,23 @@ class Interface(unittest.TestCase):
                 with self.subTest(name, property=attribute):
                     self.assertIsInstance(vars(made)[attribute], property)
 
+    def test_the_trial_has_its_own_methods(self):
+        trial = named("grounds").Ground().trial()
+        self.assertEqual(type(trial).__module__, "poolsmeet.grounds")
+        for method in ("keep", "__enter__", "__exit__"):
+            self.assertIn(method, vars(type(trial)))
+        self.assertIn("is_open", vars(trial))
+
+    def test_class_and_static_methods(self):
+        for module, name, method, kind in [
+            ("ratios", "Ratio", "of", classmethod), ("ratios", "Ratio", "read", classmethod),
+            ("pools", "Pool", "between", classmethod), ("waters", "Water", "settled", classmethod),
+            ("rains", "Rain", "read", classmethod), ("grounds", "Ground", "filled", classmethod),
+            ("grounds", "Trough", "filled", classmethod), ("grounds", "Ring", "filled", classmethod),
+            ("grounds", "Ring", "turned", staticmethod),
+        ]:
+            self.assertIs(type(vars(getattr(named(module), name))[method]), kind)
+
     def test_functions_are_defined_in_their_modules(self):
         for module, functions in FUNCTIONS.items():
             for name, parameters in functions.items():
@@ -159,6 +205,29 @@ class Language(unittest.TestCase):
     def test_no_barred_statement(self):
         barred = ast.Global, ast.AsyncFunctionDef, ast.AsyncFor, ast.AsyncWith, ast.Await
         self.assertEqual(nodes(*barred), [])
+
+    def test_sorted_takes_plain_integers_and_min_and_max_are_not_used(self):
+        # Ratio has an order of its own, and no key by which these functions may use it.
+        for name, node in nodes(ast.Call):
+            word = getattr(node.func, "id", None)
+            self.assertNotIn(word, ("min", "max"), name)
+            if word == "sorted":
+                self.assertEqual(ast.unparse(node.args[0].elt.func), "int", name)
+
+    def test_the_end_of_a_block_asks_nothing(self):
+        found = [node for _, node in nodes(ast.FunctionDef) if node.name == "__exit__"]
+        self.assertEqual(len(found), 1)
+        self.assertTrue(all(isinstance(row, ast.Assign) for row in found[0].body))
+
+    def test_no_file_imports_in_a_circle(self):
+        needs = {path.stem: set() for path in FILES}
+        for name, node in nodes(ast.ImportFrom):
+            if node.module.startswith("poolsmeet."):
+                needs[name.removesuffix(".py")].add(node.module.removeprefix("poolsmeet."))
+        while needs:
+            free = {name for name, others in needs.items() if not others & set(needs)}
+            self.assertTrue(free, needs)
+            needs = {name: others for name, others in needs.items() if name not in free}
 
     def test_no_barred_word(self):
         for name, node in nodes(ast.Name, ast.Attribute, ast.arg, ast.FunctionDef, ast.ClassDef):
